@@ -1,0 +1,1 @@
+"""A notebook's graph: who makes what, who may run, in which order."""
