@@ -1,9 +1,12 @@
 """The desk: takes a list of calls on a new notebook and gives back their answers."""
 
 from cellgraph.edits import add_cell, change_cell, drop_cell, move_cell, rename_name, tidy_cells
+from cellgraph.links import cells_above, cells_below, circle_of_cell, groups_of_cells
+from cellgraph.links import ring_of_cell, way_between, why_of_cell
 from cellgraph.notebook import Notebook
-from cellgraph.questions import all_cells, makers_of, one_cell, order_of_cells, readers_of
-from cellgraph.questions import state_of_cell, troubles_of_cell
+from cellgraph.plans import level_of_cell, needed_by_cell, order_of_cells, touched_cells, waves_of_cells
+from cellgraph.previews import suppose_changed, suppose_dropped
+from cellgraph.questions import all_cells, makers_of, one_cell, readers_of, state_of_cell, troubles_of_cell
 from cellgraph.reader import CallReader
 
 
@@ -72,6 +75,64 @@ def call_order(notebook, reader):
     return order_of_cells(notebook.row)
 
 
+def call_waves(notebook, reader):
+    return waves_of_cells(notebook.row, reader.take_whole())
+
+
+def call_level(notebook, reader):
+    return level_of_cell(notebook.row, reader.take_whole())
+
+
+def call_above(notebook, reader):
+    return cells_above(notebook.row, reader.take_whole())
+
+
+def call_below(notebook, reader):
+    return cells_below(notebook.row, reader.take_whole())
+
+
+def call_circle(notebook, reader):
+    return circle_of_cell(notebook.row, reader.take_whole())
+
+
+def call_way(notebook, reader):
+    begin_number = reader.take_whole()
+    end_number = reader.take_whole()
+    return way_between(notebook.row, begin_number, end_number)
+
+
+def call_ring(notebook, reader):
+    return ring_of_cell(notebook.row, reader.take_whole())
+
+
+def call_why(notebook, reader):
+    return why_of_cell(notebook.row, reader.take_whole())
+
+
+def call_needed(notebook, reader):
+    return needed_by_cell(notebook.row, reader.take_whole())
+
+
+def call_groups(notebook, reader):
+    return groups_of_cells(notebook.row)
+
+
+def call_touched(notebook, reader):
+    return touched_cells(notebook.row, reader.take_list())
+
+
+def call_suppose(notebook, reader):
+    number = reader.take_whole()
+    broken = reader.take_whole()
+    makes = reader.take_list()
+    reads = reader.take_list()
+    return suppose_changed(notebook.row, number, broken, makes, reads)
+
+
+def call_without(notebook, reader):
+    return suppose_dropped(notebook.row, reader.take_whole())
+
+
 # A call's number is its index here.
 CALLS = (
     call_add,
@@ -87,6 +148,19 @@ CALLS = (
     call_state,
     call_troubles,
     call_order,
+    call_waves,
+    call_level,
+    call_above,
+    call_below,
+    call_circle,
+    call_way,
+    call_ring,
+    call_why,
+    call_needed,
+    call_groups,
+    call_touched,
+    call_suppose,
+    call_without,
 )
 
 

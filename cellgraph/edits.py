@@ -1,7 +1,7 @@
 """The calls that change the notebook."""
 
 from cellgraph.graph import Graph, running_order
-from cellgraph.notebook import Cell, all_places, has_name, place_of
+from cellgraph.notebook import Cell, all_places, has_name, place_of, row_with_changed, row_without
 from cellgraph.refusals import ACCEPTED, BAD_NAME, BAD_PLACE, NAME_IN_USE, NO_SUCH_CELL
 from cellgraph.refusals import is_name, refusal_of_add, refusal_of_change
 
@@ -20,15 +20,14 @@ def change_cell(notebook, number, broken, makes, reads):
     refusal = refusal_of_change(notebook.row, number, broken, makes, reads)
     if refusal != ACCEPTED:
         return [refusal]
-    notebook.row[place_of(notebook.row, number)] = Cell(number, broken, makes, reads)
+    notebook.row = row_with_changed(notebook.row, Cell(number, broken, makes, reads))
     return [DONE]
 
 
 def drop_cell(notebook, number):
-    place = place_of(notebook.row, number)
-    if place is None:
+    if place_of(notebook.row, number) is None:
         return [NO_SUCH_CELL]
-    notebook.row.pop(place)
+    notebook.row = row_without(notebook.row, number)
     return [DONE]
 
 

@@ -30,3 +30,13 @@ def place_of(row, number):
 
 def has_name(cell, name):
     return name in cell.makes or name in cell.reads
+
+
+def row_with_changed(row, cell):
+    """A new row, in which the cell stands at the place of the one of its number."""
+    return [cell if old_cell.number == cell.number else old_cell for old_cell in row]
+
+
+def row_without(row, number):
+    """A new row, in which no cell of that number stands."""
+    return [cell for cell in row if cell.number != number]

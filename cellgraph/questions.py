@@ -1,15 +1,11 @@
-"""The calls that only tell something of a row of cells."""
+"""The calls that tell what cells hold and in which state they are."""
 
-from cellgraph.graph import BEHIND, Graph, places_making, places_reading, running_order, unclear_sources
+from cellgraph.graph import BEHIND, Graph, places_making, places_reading, unclear_sources
 from cellgraph.notebook import all_places, place_of
 from cellgraph.refusals import BAD_NAME, NO_SUCH_CELL, is_name
+from cellgraph.telling import told_cells, told_tuples
 
 FOUND = 0
-
-
-def told_cells(row, places):
-    """How many cells, then their numbers."""
-    return [len(places)] + [row[place].number for place in places]
 
 
 def all_cells(row):
@@ -49,12 +45,4 @@ def troubles_of_cell(row, number):
         return [NO_SUCH_CELL]
     graph = Graph(row)
     behind = [(BEHIND, row[source].number) for source in unclear_sources(graph, place)]
-    troubles = graph.own_troubles[place] + behind
-    answer = [len(troubles)]
-    for trouble in troubles:
-        answer.extend(trouble)
-    return answer
-
-
-def order_of_cells(row):
-    return told_cells(row, running_order(Graph(row)))
+    return told_tuples(graph.own_troubles[place] + behind)

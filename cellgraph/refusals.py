@@ -12,16 +12,25 @@ NAME_TWICE = -6
 NOTEBOOK_FULL = -7
 NO_SUCH_CELL = -8
 NAME_IN_USE = -9
+BAD_WIDTH = -10
+NOT_CLEAR = -11
+NO_CHAIN = -12
 
 LOWEST_NUMBER = 1
 HIGHEST_NUMBER = 99
 LOWEST_NAME = 0
 HIGHEST_NAME = 31
 MOST_CELLS = 12
+LEAST_WIDTH = 1
+GREATEST_WIDTH = 12
 
 
 def is_name(value):
     return LOWEST_NAME <= value and value <= HIGHEST_NAME
+
+
+def is_width(value):
+    return LEAST_WIDTH <= value and value <= GREATEST_WIDTH
 
 
 def has_twice(values):

@@ -59,6 +59,58 @@ def order():
     return [12]
 
 
+def waves(width):
+    return [13, width]
+
+
+def level(number):
+    return [14, number]
+
+
+def above(number):
+    return [15, number]
+
+
+def below(number):
+    return [16, number]
+
+
+def circle(number):
+    return [17, number]
+
+
+def way(begin, end):
+    return [18, begin, end]
+
+
+def ring(number):
+    return [19, number]
+
+
+def why(number):
+    return [20, number]
+
+
+def needed(number):
+    return [21, number]
+
+
+def groups():
+    return [22]
+
+
+def touched(numbers):
+    return [23, len(numbers), *numbers]
+
+
+def suppose(number, broken=0, makes=(), reads=()):
+    return [24, number, broken, len(makes), *makes, len(reads), *reads]
+
+
+def without(number):
+    return [25, number]
+
+
 def written(calls):
     """The calls as the one list that is handed in."""
     return [value for call in calls for value in call]
@@ -97,10 +149,23 @@ def row(*contents):
     ]
 
 
+def net(*links):
+    """Calls that add cells one behind another, each told as its number and the numbers that it reads from.
+
+    Each makes one name, its place at first; a mark may stand behind.
+    """
+    names = {link[0]: place for place, link in enumerate(links)}
+    return row(*[(link[0], [names[link[0]]], [names[other] for other in link[1]], *link[2:]) for link in links])
+
+
 EXAMPLE = row((7, [2], [1]), (5, [1], []), (9, [4], [2, 3]), (8, [0], [0]))
 EXAMPLE_NUMBERS = [7, 5, 9, 8]
 FULL = row(*[(number, [number], []) for number in range(1, 13)])
 FULL_NUMBERS = list(range(1, 13))
+# A chain of 12 cells, which is 11 steps, and a circle of 12 cells; in both each cell reads from the next one.
+LINE = net(*[(number, [number + 1] if number < 12 else []) for number in range(1, 13)])
+ROUND = net(*[(number, [number % 12 + 1]) for number in range(1, 13)])
+WRONG_NUMBERS = (1, 0, 100, -7, HUGE, -HUGE)
 
 
 def picture(numbers):
@@ -123,3 +188,26 @@ class RefusalCase(unittest.TestCase):
         before, answer, after = pictures_around(setup, numbers, call)
         self.assertEqual(answer, [refusal], call)
         self.assertEqual(before, after, call)
+
+
+class QuestionCase(unittest.TestCase):
+    def tells(self, expected, setup, *calls):
+        """Each call answers so, and behind it the whole notebook is as it was."""
+        numbers = last(*setup, cells())[1:]
+        look = [*picture(numbers), *[state(number) for number in numbers], order()]
+        for call in calls:
+            found = ask(*setup, *look, call, *look, call)[len(setup):]
+            self.assertEqual(found[len(look)], expected, call)
+            self.assertEqual(found[:len(look) + 1], found[len(look) + 1:], call)
+
+    def tells_each(self, setup, write, expected):
+        """What the calls written for the numbers of a dict answer is what stands there."""
+        for number, answer in expected.items():
+            self.tells(answer, setup, write(number))
+
+    def tells_no_cell(self, write):
+        """A call about one cell is refused with -8 where there is none of that number."""
+        self.tells([-8], EXAMPLE, *[write(number) for number in WRONG_NUMBERS])
+        self.tells([-8], [], write(1), write(0), write(HUGE))
+        self.tells([-8], [*EXAMPLE, drop(7)], write(7))
+        self.tells([-8], FULL, write(13))

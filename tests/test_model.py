@@ -1,10 +1,11 @@
-"""Points 1 to 12 together: many lists of calls against a slow reading of the document's words."""
+"""All points together: many lists of calls against a slow reading of the document's words."""
 
+import copy
 import random
 import unittest
 
 from cellgraph.desk import answers
-from tests.helper import HUGE, written
+from tests.helper import HUGE, net, written
 
 
 class Model:
@@ -170,17 +171,153 @@ class Model:
         found = self.running_order()
         return [len(found), *found]
 
+    def waves(self, width):
+        if width not in range(1, 13):
+            return [-10]
+        states = self.all_states()
+        pairs = self.above_pairs()
+        left = [number for number in self.numbers if states[number] == 0]
+        rounds = []
+        while left:
+            before = [number for made in rounds for number in made]
+            ready = [number for number in left if all(high in before for low, high in pairs if low == number)]
+            rounds.append(ready[:width])
+            left = [number for number in left if number not in rounds[-1]]
+        return [len(rounds)] + [value for made in rounds for value in (len(made), *made)]
+
+    def chains(self, number):
+        """For 0 to 12 steps all chains that begin with the cell, those of lower places first."""
+        straight = {low: [high for high in self.numbers if self.reads_from(low, high)] for low in self.numbers}
+        found = [[number]]
+        for steps in range(13):
+            yield found
+            found = [chain + [other] for chain in found for other in straight[chain[-1]]]
+
+    def shortest(self, number, fits):
+        """The first chain that fits, of those with fewest steps."""
+        for found in self.chains(number):
+            for chain in found:
+                if fits(chain):
+                    return chain
+        raise AssertionError("there is no such chain")
+
+    def unclear_refusal(self, number):
+        if number not in self.numbers:
+            return [-8]
+        return [-11] if self.all_states()[number] != 0 else None
+
+    def level(self, number):
+        refusal = self.unclear_refusal(number)
+        return refusal or [max(steps for steps, found in enumerate(self.chains(number)) if found)]
+
+    def listed(self, number, fits):
+        if number not in self.numbers:
+            return [-8]
+        found = [other for other in self.numbers if fits(other)]
+        return [len(found), *found]
+
+    def above(self, number):
+        pairs = self.above_pairs()
+        return self.listed(number, lambda other: (number, other) in pairs)
+
+    def below(self, number):
+        pairs = self.above_pairs()
+        return self.listed(number, lambda other: (other, number) in pairs)
+
+    def circle(self, number):
+        pairs = self.above_pairs()
+        return self.listed(number, lambda other: (number, other) in pairs and (other, number) in pairs)
+
+    def way(self, begin, end):
+        if begin not in self.numbers or end not in self.numbers:
+            return [-8]
+        if begin != end and (begin, end) not in self.above_pairs():
+            return [-12]
+        chain = self.shortest(begin, lambda chain: chain[-1] == end)
+        return [len(chain), *chain]
+
+    def ring(self, number):
+        if number not in self.numbers:
+            return [-8]
+        if (number, number) not in self.above_pairs():
+            return [0]
+        chain = self.shortest(number, lambda chain: len(chain) > 1 and chain[-1] == number)
+        return [len(chain) - 1, *chain[:-1]]
+
+    def why(self, number):
+        if number not in self.numbers:
+            return [-8]
+        states = self.all_states()
+        if states[number] == 0:
+            return [0]
+        chain = self.shortest(number, lambda chain: states[chain[-1]] in (1, 2, 3, 4, 5))
+        return [len(chain), *chain]
+
+    def needed(self, number):
+        refusal = self.unclear_refusal(number)
+        if refusal:
+            return refusal
+        pairs = self.above_pairs()
+        straight = [other for other in self.numbers if self.reads_from(number, other)]
+        return self.listed(number, lambda other: other in straight and not any(
+            (third, other) in pairs for third in straight if third != other))
+
+    def groups(self):
+        marks = {number: number for number in self.numbers}
+        for low in self.numbers:
+            for high in self.numbers:
+                if self.reads_from(low, high):
+                    old, new = marks[low], marks[high]
+                    marks = {number: new if mark == old else mark for number, mark in marks.items()}
+        found = {}
+        for number in self.numbers:
+            found.setdefault(marks[number], []).append(number)
+        return [len(found)] + [value for group in found.values() for value in (len(group), *group)]
+
+    def touched(self, numbers):
+        if any(number not in self.numbers for number in numbers):
+            return [-8]
+        pairs = self.above_pairs()
+        found = [number for number in self.running_order()
+                 if number in numbers or any((number, other) in pairs for other in numbers)]
+        return [len(found), *found]
+
+    def differing(self, later):
+        now, then = self.all_states(), later.all_states()
+        found = [(number, now[number], then[number]) for number in self.numbers
+                 if number in then and now[number] != then[number]]
+        return [len(found)] + [value for values in found for value in values]
+
+    def suppose(self, number, broken, makes, reads):
+        later = copy.deepcopy(self)
+        refusal = later.change(number, broken, makes, reads)
+        return self.differing(later) if refusal == [0] else refusal
+
+    def without(self, number):
+        later = copy.deepcopy(self)
+        refusal = later.drop(number)
+        return self.differing(later) if refusal == [0] else refusal
+
     def answer(self, call):
         kind, values = call[0], call[1:]
-        if kind in (0, 1):
-            wholes = 3 - kind
-            begin = wholes + 1
-            end = begin + values[wholes]
-            return (self.add, self.change)[kind](*values[:wholes], values[begin:end], values[end + 1:])
+        if kind in ROWS:
+            wholes, rows = ROWS[kind]
+            position = 1 + wholes
+            values = call[1:position]
+            for taken in range(rows):
+                begin = position + 1
+                position = begin + call[position]
+                values.append(call[begin:position])
         return (
-            self.drop, self.move, self.tidy, self.rename, self.cells, self.cell, self.makers, self.readers,
-            self.state, self.troubles, self.order,
-        )[kind - 2](*values)
+            self.add, self.change, self.drop, self.move, self.tidy, self.rename, self.cells, self.cell, self.makers,
+            self.readers, self.state, self.troubles, self.order, self.waves, self.level, self.above, self.below,
+            self.circle, self.way, self.ring, self.why, self.needed, self.groups, self.touched, self.suppose,
+            self.without,
+        )[kind](*values)
+
+
+# The calls with lists: how many whole numbers stand ahead, and how many lists follow.
+ROWS = {0: (3, 2), 1: (2, 2), 23: (0, 1), 24: (2, 2)}
 
 
 class Source:
@@ -190,6 +327,7 @@ class Source:
         self.random = random.Random(seed)
         self.most_names = self.random.choice((4, 8, 14, 32))
         self.most_numbers = self.random.choice((5, 13, 20))
+        self.backwards = self.random.choice((0, 0, 0.1, 0.3))
 
     def rarely(self, wrong, right):
         return self.random.choice(wrong) if self.random.random() < 0.03 else right
@@ -218,31 +356,73 @@ class Source:
     def call(self, kind):
         if kind == 0:
             return [kind, self.number(), self.place(), *self.content()]
-        if kind == 1:
+        if kind in (1, 24):
             return [kind, self.number(), *self.content()]
         if kind == 3:
             return [kind, self.number(), self.place()]
         if kind == 5:
             return [kind, self.name(), self.name()]
-        if kind in (4, 6, 12):
+        if kind in (4, 6, 12, 22):
             return [kind]
+        if kind == 13:
+            return [kind, self.rarely((-1, 0, 13, HUGE, -HUGE), self.random.choice((1, 1, 2, 2, 3, 4, 12)))]
+        if kind == 18:
+            return [kind, self.number(), self.number()]
+        if kind == 23:
+            numbers = [self.number() for turn in range(self.random.choice((0, 1, 1, 2, 3)))]
+            return [kind, len(numbers), *numbers]
         return [kind, self.name() if kind in (8, 9) else self.number()]
 
-    def calls(self):
-        kinds = self.random.choices(range(13), (9, 3, 1, 2, 1, 2, 1, 2, 1, 1, 3, 4, 3), k=120)
+    def calls(self, weights):
+        kinds = self.random.choices(range(26), weights, k=120)
         return [self.call(kind) for kind in kinds]
 
 
+    def net_calls(self):
+        """A notebook in which most cells are joined, and all that can be asked of it."""
+        numbers = self.random.sample(range(1, 100), self.random.choice((3, 6, 9, 12, 12)))
+        rank = {number: self.random.random() for number in numbers}
+        links = []
+        for number in numbers:
+            upper = [other for other in numbers if rank[other] > rank[number]]
+            others = self.random.sample(upper, min(len(upper), self.random.choice((0, 1, 2, 2, 3))))
+            if self.random.random() < self.backwards:
+                others = sorted({*others, self.random.choice(numbers)})
+            links.append((number, others, int(self.random.random() < self.backwards / 2)))
+        calls = net(*links)
+        calls += [[kind, number] for kind in (10, 11, 14, 15, 16, 17, 19, 20, 21, 25) for number in numbers]
+        calls += [[18, self.random.choice(numbers), self.random.choice(numbers)] for turn in range(60)]
+        calls += [[13, width] for width in range(1, 13)] + [[12], [22]]
+        calls += [[23, 2, self.random.choice(numbers), self.random.choice(numbers)] for turn in range(20)]
+        calls += [[24, self.random.choice(numbers), *self.content()] for turn in range(20)]
+        return calls
+
+
+FIRST = (9, 3, 1, 2, 1, 2, 1, 2, 1, 1, 3, 4, 3)
+NONE = (0,) * 13
+LATER = (3, 2, 2, 2, 2, 5, 3, 3, 2, 3, 2, 3, 3)
+
+
 class ModelTest(unittest.TestCase):
-    def test_many_lists(self):
+    def compare(self, seed, calls):
+        model = Model()
+        expected = []
+        for call in calls:
+            told = model.answer(call)
+            expected += [len(told), *told]
+        self.assertEqual(answers(written(calls)), expected, f"seed {seed}")
+
+    def test_many_lists_of_the_first_calls(self):
         for seed in range(60):
-            calls = Source(seed).calls()
-            model = Model()
-            expected = []
-            for call in calls:
-                told = model.answer(call)
-                expected += [len(told), *told]
-            self.assertEqual(answers(written(calls)), expected, f"seed {seed}")
+            self.compare(seed, Source(seed).calls(FIRST + NONE))
+
+    def test_many_lists_of_all_calls(self):
+        for seed in range(100, 160):
+            self.compare(seed, Source(seed).calls(FIRST + LATER))
+
+    def test_many_nets(self):
+        for seed in range(200, 240):
+            self.compare(seed, Source(seed).net_calls())
 
 
 if __name__ == "__main__":
